@@ -8,3 +8,7 @@ def is_whole(value):
 
 def is_below(value, many):
     return is_whole(value) and 0 <= value < many
+
+
+def is_from_nought(value):
+    return is_whole(value) and value >= 0

@@ -1,5 +1,7 @@
 """What the tests share: tables, a plain walk that knows nothing of the program, and how a refusal is looked at."""
 
+from itertools import groupby
+
 from tapeproof import errors
 
 # Busy beavers of two, three and four states; their last step, which goes to no state, is a stop here.
@@ -86,6 +88,44 @@ def many_tables():
     return TABLES + spread
 
 
+def staying_table(seed, states, signs):
+    """A table most of whose entries lead to their own state, some of them to the left and some to the right."""
+    spread = Spread(seed)
+    table = []
+    for state in range(states):
+        row = [spread_entry(spread, states, signs) for _ in range(signs)]
+        table.append([entry if entry is None or spread.below(4) == 0 else entry[:2] + (state,) for entry in row])
+    return table
+
+
+def mirrored_table(table):
+    return [[entry and (entry[0], "rl"["lr".index(entry[1])], entry[2]) for entry in row] for row in table]
+
+
+def spread_shot(seed, states, signs, about, far=10 ** 50):
+    """A shot with marks near the machine, and some far from it, on both sides."""
+    spread = Spread(seed)
+    places = [about + offset for offset in range(-6, 7)] + [about - far, about + far, about - 100, about + 100]
+    marks = [(place, spread.below(signs)) for place in sorted(places)]
+    return (spread.below(states), about, tuple(mark for mark in marks if mark[1] != 0))
+
+
+def plain_side(signs):
+    """The stretches of cells told one by one away from the machine."""
+    side = [(sign, len(list(cells))) for sign, cells in groupby(signs)]
+    return side[:-1] if side and side[-1][0] == 0 else side
+
+
+def plain_stretches(shot):
+    """The row seen from the machine, cell by cell: for shots whose marks all lie near the machine."""
+    state, place, marks = shot
+    cells = dict(marks)
+    reach = max([abs(at - place) for at in cells], default=0) + 2
+    left = [cells.get(place - 1 - offset, 0) for offset in range(reach)]
+    right = [cells.get(place + offset, 0) for offset in range(reach)]
+    return (state, plain_side(left), plain_side(right))
+
+
 def plain_walk(table, shot, steps):
     """The shots from this one on, one behind each step, until steps are done or the machine stops."""
     state, place, marks = shot
@@ -102,6 +142,8 @@ def copied(things):
     """A copy with new lists all the way down."""
     if isinstance(things, list):
         return [copied(thing) for thing in things]
+    if isinstance(things, tuple):
+        return tuple(copied(thing) for thing in things)
     return things
 
 
@@ -116,3 +158,8 @@ def assert_refused(case, refusal, call, *given):
         call(*given)
     case.assertIs(type(caught.exception), refusal)
     case.assertEqual(repr(given), before)
+
+
+def assert_alike(case, told, expected):
+    """For long rows, of which unittest would take very long to show how they differ."""
+    case.assertTrue(told == expected, f"told {told!r:.200}, not {expected!r:.200}")

@@ -2,7 +2,7 @@ import unittest
 
 from plain import (
     BEAVER_FOUR, BEAVER_THREE, BEAVER_TWO, COUNTS, GOES_RIGHT, STOPS_AT_ONCE, STOPS_AT_ONCE_OF_TWO, SWEEPS, TO_AND_FRO,
-    WRITES_LEFT, WRITES_RIGHT, Spread, assert_refused, many_tables, plain_walk, spread_table,
+    WRITES_LEFT, WRITES_RIGHT, assert_refused, many_tables, plain_walk, spread_shot, spread_table,
 )
 from tapeproof.errors import NoShot
 from tapeproof.machines import Machine, signs_of, states_of
@@ -10,14 +10,6 @@ from tapeproof.running import after, after_from, stops_at, trail
 
 FIRST = (0, 0, ())
 FAR = 10 ** 50
-
-
-def spread_shot(seed, states, signs, about):
-    """A shot with marks near the machine, and some far from it, on both sides."""
-    spread = Spread(seed)
-    places = [about + offset for offset in range(-6, 7)] + [about - FAR, about + FAR, about - 100, about + 100]
-    marks = [(place, spread.below(signs)) for place in sorted(places)]
-    return (spread.below(states), about, tuple(mark for mark in marks if mark[1] != 0))
 
 
 class After(unittest.TestCase):
