@@ -11,6 +11,10 @@ LEFT = "l"
 RIGHT = "r"
 
 
+def other_way(way):
+    return LEFT if way == RIGHT else RIGHT
+
+
 def is_entry(thing, states, signs):
     if thing is None:
         return True

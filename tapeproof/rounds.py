@@ -47,16 +47,17 @@ def takes_same(machine, paper):
     return walked is not None and walked[0] == walked[1]
 
 
+def is_shifted(begun, ended, low, high):
+    """Whether the machine goes on from the one shot as from the other, coming so far to the left and to the right."""
+    if begun[0] != ended[0] or begun[1] == ended[1]:
+        return False
+    if begun[1] < ended[1]:
+        return marks_from(begun, low) == marks_from(ended, low)
+    return marks_up_to(begun, high) == marks_up_to(ended, high)
+
+
 def takes_shifted(machine, paper):
     if not is_paper(paper, SHIFTED):
         return False
     walked = round_of(machine, paper[1], paper[2])
-    if walked is None:
-        return False
-    begun = walked[0]
-    ended = walked[1]
-    if begun[0] != ended[0] or begun[1] == ended[1]:
-        return False
-    if begun[1] < ended[1]:
-        return marks_from(begun, walked[2]) == marks_from(ended, walked[2])
-    return marks_up_to(begun, walked[3]) == marks_up_to(ended, walked[3])
+    return walked is not None and is_shifted(walked[0], walked[1], walked[2], walked[3])

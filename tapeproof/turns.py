@@ -1,14 +1,14 @@
 """Turns of a machine, and the numbers of all machines of so many states and signs."""
 
 from tapeproof.errors import NoNames, NoNumber
-from tapeproof.machines import LEFT, RIGHT, Machine, signs_of, states_of
+from tapeproof.machines import LEFT, RIGHT, Machine, other_way, signs_of, states_of
 from tapeproof.whole import is_below
 
 
 def mirrored_entry(entry):
     if entry is None:
         return None
-    return (entry[0], RIGHT if entry[1] == LEFT else LEFT, entry[2])
+    return (entry[0], other_way(entry[1]), entry[2])
 
 
 def mirrored_row(row):

@@ -1,4 +1,5 @@
-"""What the tests share: tables, a plain walk that knows nothing of the program, and how a refusal is looked at."""
+"""What the tests share: tables, plain walks and moves that know nothing of the program, and how a refusal is looked at.
+"""
 
 from itertools import groupby
 
@@ -37,6 +38,9 @@ COUNTS = [
     [(1, "l", 1), (0, "r", 0), (2, "r", 0)],
     [(2, "r", 0), (0, "l", 1), (1, "l", 1)],
 ]
+
+FIRST = (0, 0, ())
+FAR = 10 ** 50
 
 TABLES = [
     BEAVER_TWO, BEAVER_THREE, BEAVER_FOUR, STOPS_AT_ONCE, STOPS_AT_ONCE_OF_TWO, GOES_RIGHT, WRITES_RIGHT, WRITES_LEFT,
@@ -136,6 +140,219 @@ def plain_walk(table, shot, steps):
         place += 1 if way == "r" else -1
         shots.append((state, place, tuple(sorted(cell for cell in cells.items() if cell[1] != 0))))
     return shots
+
+
+def from_machine(shot):
+    """The shot but for its places: the marks as they are seen from the machine."""
+    return (shot[0], tuple((place - shot[1], sign) for place, sign in shot[2]))
+
+
+def seen(shot, places):
+    """The signs of these cells, seen from the machine."""
+    cells = dict(shot[2])
+    return [cells.get(shot[1] + place, 0) for place in places]
+
+
+def differing(walked, first, later):
+    """Where the two rows, seen from the machine, differ, and how far the machine comes to the left and right."""
+    place = walked[first][1]
+    places = [shot[1] for shot in walked[first:later + 1]]
+    around = range(-2 * len(walked) - 2, 2 * len(walked) + 3)
+    pairs = zip(around, seen(walked[first], around), seen(walked[later], around))
+    return [at for at, sign, other in pairs if sign != other], place - min(places), max(places) - place
+
+
+def plain_same(walked, first, later):
+    return 0 <= first < later < len(walked) and walked[first] == walked[later]
+
+
+def plain_shifted(walked, first, later):
+    if not 0 <= first < later < len(walked) or walked[first][0] != walked[later][0]:
+        return False
+    unlike, low, high = differing(walked, first, later)
+    if walked[later][1] > walked[first][1]:
+        return not any(at >= -low for at in unlike)
+    if walked[later][1] < walked[first][1]:
+        return not any(at <= high for at in unlike)
+    return False
+
+
+def ones(*signs):
+    return tuple(("one", sign) for sign in signs)
+
+
+def many(extra, *word):
+    return ("many", word, extra)
+
+
+def with_tuples(shape):
+    return shape[:2] + (tuple(shape[2]), tuple(shape[3]))
+
+
+def with_lists(shape):
+    return shape[:2] + (list(shape[2]), list(shape[3]))
+
+
+def mirrored_tokens(tokens):
+    return tuple(token if token[0] == "one" else ("many", token[1][::-1], token[2]) for token in reversed(tokens))
+
+
+def mirrored_shape(shape):
+    return (shape[0], {"l": "r", "r": "l"}[shape[1]], mirrored_tokens(shape[3]), mirrored_tokens(shape[2]))
+
+
+def mirrored_move(move):
+    return move[:1] + tuple({"l": "r", "r": "l"}[side] for side in move[1:2]) + move[2:]
+
+
+def over_word(table, state, word, most=1000):
+    """The word as the machine, begun at its first cell, leaves it to the right in the same state, and the steps."""
+    cells = dict(enumerate(word))
+    at, now, steps = 0, state, 0
+    while 0 <= at < len(word) and steps < most and table[now][cells[at]] is not None:
+        cells[at], way, now = table[now][cells[at]]
+        at += 1 if way == "r" else -1
+        steps += 1
+    return (tuple(cells[cell] for cell in range(len(word))), steps) if (at, now) == (len(word), state) else None
+
+
+def plain_moved(table, shape, move):
+    """The shape behind a move, or None where it can not be done: told for one side and one facing alone."""
+    if (move[1] if len(move) > 1 else {"r": "l", "l": "r"}[shape[1]]) == "r":
+        told = plain_moved(mirrored_table(table), mirrored_shape(shape), mirrored_move(move))
+        return told and mirrored_shape(told)
+    state, facing, left, right = with_tuples(shape)
+    if len(move) == 1:
+        return plain_moved_on(table, state, left, right, move[0])
+    told = plain_put_together(left, *move[:1], *move[2:])
+    return None if told is None else (state, facing, told, right)
+
+
+def plain_moved_on(table, state, left, right, word):
+    """Facing r."""
+    following = right[0] if right else ("one", 0)
+    if word == "step":
+        if following[0] == "many" or table[state][following[1]] is None:
+            return None
+        write, way, state = table[state][following[1]]
+        if way == "r":
+            return (state, "r", left + ones(write), right[1:])
+        return (state, "l", left, ones(write) + right[1:])
+    if following[0] == "one":
+        return None
+    _, signs, extra = following
+    if word == "over":
+        told = over_word(table, state, signs)
+        return told and (state, "r", left + (("many", told[0], extra),), right[1:])
+    return None if extra == 0 else (state, "r", left, ones(*signs) + (("many", signs, extra - 1),) + right[1:])
+
+
+def plain_put_together(tokens, word, at=None):
+    """Of the list l."""
+    if word == "pad":
+        return ones(0) + tokens
+    if word == "trim":
+        return tokens[1:] if tokens[:1] == ones(0) else None
+    if not 0 <= at < len(tokens) or tokens[at][0] == "one":
+        return None
+    outer, (_, signs, extra), inner = tokens[:at], tokens[at], tokens[at + 1:]
+    more = (("many", signs, extra + 1),)
+    if word == "join":
+        return outer + more + inner[len(signs):] if inner[:len(signs)] == ones(*signs) else None
+    if word == "draw":
+        near = outer[max(0, len(outer) - len(signs)):]
+        return outer[:len(outer) - len(signs)] + more + inner if near == ones(*signs) else None
+    if word == "roll":
+        turned = ("many", signs[-1:] + signs[:-1], extra)
+        return outer[:-1] + (turned, outer[-1]) + inner if outer[-1:] == ones(signs[-1]) else None
+    turned = ("many", signs[1:] + signs[:1], extra)
+    return outer + (inner[0], turned) + inner[1:] if inner[:1] == ones(signs[0]) else None
+
+
+WORDS = ("join", "draw", "roll", "back")
+
+
+def all_moves(shape):
+    moves = [("step",), ("over",), ("open",)]
+    for side, tokens in zip("lr", shape[2:]):
+        moves += [("trim", side), ("pad", side)]
+        moves += [(word, side, at) for word in WORDS for at in range(-2, len(tokens) + 2)]
+    return moves
+
+
+def steps_of(table, shape, move, count):
+    """How many plain steps the move is at this count."""
+    if move == ("step",):
+        return 1
+    if move != ("over",):
+        return 0
+    if shape[1] == "l":
+        return steps_of(mirrored_table(table), mirrored_shape(shape), move, count)
+    _, word, extra = shape[3][0]
+    return (count + extra) * over_word(table, shape[0], word)[1]
+
+
+NO_MOVES = [
+    None, True, False, 0, 1, -1, FAR, "", "step", "over", "open", "pad", "l", (), [], ["step"], ["over"], ["open"],
+    ["pad", "l"], ["trim", "r"], ["join", "l", 0], ["draw", "r", 0], (("step",),), [("step",)], ("Step",), ("STEP",),
+    ("steps",), ("step ",), ("",), (None,), (True,), (0,), (["step"],), ("step", "l"), ("step", "r"), ("step", None),
+    ("step", 0), ("step", "r", 0), ("over", "r"), ("over", "l"), ("over", "r", 0), ("open", "r"), ("open", "l", 0),
+    ("pad",), ("trim",), ("join",), ("draw",), ("roll",), ("back",), ("pad", "l", 0), ("pad", "r", None),
+    ("trim", "l", 0), ("join", "l"), ("draw", "r"), ("roll", "l"), ("back", "r"), ("join", 0), ("join", 0, "l"),
+    ("join", "l", 0, 0), ("draw", "r", 0, None), ("roll", "l", 0, 0), ("back", "l", 0, 0), ("pad", "l", "r"),
+    ("pad", "L"), ("pad", "R"), ("pad", ""), ("pad", "lr"), ("pad", "left"), ("pad", None), ("pad", True), ("pad", 0),
+    ("pad", ("l",)), ("pad", ["l"]), ("trim", "L"), ("trim", ""), ("trim", None), ("trim", 1), ("trim", ["r"]),
+    ("join", "", 0), ("join", "L", 0), ("join", None, 0), ("join", True, 0), ("join", ["l"], 0), ("join", 1, 0),
+    ("fold", "l", 0), ("fold", "l"), ("Pad", "l"), ("Join", "l", 0), ("", "l", 0), (None, "l", 0), (None, "l"),
+    (("join",), "l", 0), (["join"], "l", 0), (["pad"], "l"), ("lr", "l"), ("step", "l", 0), ("join", "l", "0"),
+    ("join", "l", None), ("join", "l", (0,)), ("join", "l", [0]), ("one", 1), ("many", (1,), 0),
+]
+
+
+# A paper of growing for SWEEPS, which writes a 1 more at each end in each round.
+SWEEPS_SHAPE = (0, "l", (), (many(0, 1, 1),))
+SWEEPS_MOVES = (
+    ("step",), ("over",), ("step",), ("over",), ("step",), ("roll", "r", 1), ("join", "r", 0),
+)
+SWEEPS_PAPER = ("grow", 0, SWEEPS_SHAPE, SWEEPS_MOVES)
+
+
+WRONG_NUMBERS = (-1, -2, -FAR, True, False, None, "1", "", (), (1,), [], [1])
+
+
+def wrong_tokens():
+    tokens = [
+        None, True, False, 0, 1, "one", "many", "", (), [], ("one",), ("many",), ("many", (1,)), ("many", 0),
+        ("one", 1, 0), ("one", 1, 1), ("one", (1,), 0), ("many", (1,), 0, 0), ("many", (), 0), ("many", (), 5),
+        ("many", 1, 0), ("many", "1", 0), ("many", None, 0), ("many", [1], 0), ("many", [], 0), ("two", 1),
+        ("ones", 1), ("One", 1), ("", 1), (None, 1), (1, 1), ("few", (1,), 0), (None, (1,), 0), ("Many", (1,), 0),
+        ["one", 1], ["many", (1,), 0], (1, "one"), (("one", 1),), ("one", 1, None), ("many", 0, (1,)),
+    ]
+    tokens += [("one", wrong) for wrong in WRONG_NUMBERS]
+    tokens += [("many", (1,), wrong) for wrong in WRONG_NUMBERS]
+    tokens += [("many", (wrong,), 0) for wrong in WRONG_NUMBERS]
+    tokens += [("many", (1, wrong, 2), 1) for wrong in WRONG_NUMBERS]
+    tokens += [("many", (1, 2, wrong), 0) for wrong in WRONG_NUMBERS]
+    return tokens
+
+
+def wrong_shapes():
+    """What is no shape, whatever the machine is."""
+    wrongs = [
+        (), (0,), (0, "r"), (0, "r", []), (0, "r", [], [], []), (0, "r", [], [], None), (0, [], []), ("r", [], []),
+        None, True, False, 0, 1, "", "0r", [], [0, "r", [], []],
+    ]
+    for state in WRONG_NUMBERS:
+        wrongs += [(state, "r", [], []), (state, "l", [("one", 1)], [("many", (1,), 0)])]
+    for facing in ("", "L", "R", "lr", "rl", " r", "left", "right", None, True, False, 0, 1, ("r",), ["l"]):
+        wrongs += [(0, facing, [], []), (0, facing, [("one", 1)], [("one", 1)])]
+    for wrong in (None, True, False, 0, 1, "", "one", "l"):
+        wrongs += [(0, "r", wrong, []), (0, "l", [], wrong), (0, "l", [("one", 1)], wrong)]
+    for wrong in wrong_tokens():
+        for tokens in ([wrong], [wrong, ("one", 1)], [("one", 1), wrong], [("many", (1,), 0), wrong, ("one", 2)]):
+            wrongs += [(0, "r", tokens, []), (0, "l", [], tokens)]
+            wrongs += [(0, "r", tuple(tokens), (("one", 1),)), (0, "l", (("one", 1),), tuple(tokens))]
+    return wrongs
 
 
 def copied(things):

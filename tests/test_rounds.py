@@ -1,14 +1,12 @@
 import unittest
 
 from plain import (
-    BEAVER_FOUR, BEAVER_TWO, GOES_RIGHT, STOPS_AT_ONCE, SWEEPS, TABLES, TO_AND_FRO, WRITES_LEFT, WRITES_RIGHT,
-    many_tables, mirrored_table, plain_walk, staying_table,
+    BEAVER_FOUR, BEAVER_TWO, FIRST, GOES_RIGHT, STOPS_AT_ONCE, SWEEPS, TABLES, TO_AND_FRO, WRITES_LEFT, WRITES_RIGHT,
+    differing, many_tables, mirrored_table, plain_same, plain_shifted, plain_walk, staying_table,
 )
 from tapeproof.machines import Machine
 from tapeproof.rounds import takes_same, takes_shifted
 from tapeproof.turns import machine_of
-
-FIRST = (0, 0, ())
 
 # Each with a table, first and later. The names tell how the row behind later steps, seen from the machine, differs.
 # low is 1: the cells differ at 1 to the left of the place alone, which is the last one that must be the same.
@@ -26,36 +24,6 @@ NEXT_TO_EDGE_AT_TWO = ([[(1, "r", 1), (1, "l", 0)], [(0, "l", 0), (0, "r", 0)]],
 
 WITHIN = (EDGE_DIFFERS, EDGE_DIFFERS_AT_TWO, OWN_CELL_DIFFERS, FAR_CELL_DIFFERS)
 BEYOND = (NEXT_TO_EDGE_DIFFERS, NEXT_TO_EDGE_AT_TWO)
-
-
-def seen(shot, places):
-    """The signs of these cells, seen from the machine."""
-    cells = dict(shot[2])
-    return [cells.get(shot[1] + place, 0) for place in places]
-
-
-def differing(walked, first, later):
-    """Where the two rows, seen from the machine, differ, and how far the machine comes to the left and right."""
-    place = walked[first][1]
-    places = [shot[1] for shot in walked[first:later + 1]]
-    around = range(-2 * len(walked) - 2, 2 * len(walked) + 3)
-    pairs = zip(around, seen(walked[first], around), seen(walked[later], around))
-    return [at for at, sign, other in pairs if sign != other], place - min(places), max(places) - place
-
-
-def plain_same(walked, first, later):
-    return 0 <= first < later < len(walked) and walked[first] == walked[later]
-
-
-def plain_shifted(walked, first, later):
-    if not 0 <= first < later < len(walked) or walked[first][0] != walked[later][0]:
-        return False
-    unlike, low, high = differing(walked, first, later)
-    if walked[later][1] > walked[first][1]:
-        return not any(at >= -low for at in unlike)
-    if walked[later][1] < walked[first][1]:
-        return not any(at <= high for at in unlike)
-    return False
 
 
 def some_tables():

@@ -1,10 +1,8 @@
 import unittest
 
-from plain import Spread, assert_alike, assert_refused, copied
+from plain import FAR, Spread, assert_alike, assert_refused, copied, with_tuples, wrong_shapes
 from tapeproof.errors import NoShape
 from tapeproof.shapes import laid_out, raised
-
-FAR = 10 ** 50
 
 
 def plain_cells(tokens, count):
@@ -30,10 +28,6 @@ def spread_shape(seed):
     left = [spread_token(spread, 8) for _ in range(spread.below(6))]
     right = [spread_token(spread, 8) for _ in range(spread.below(6))]
     return (spread.below(12), "lr"[spread.below(2)], left, right)
-
-
-def with_tuples(shape):
-    return shape[:2] + (tuple(shape[2]), tuple(shape[3]))
 
 
 def shapes():
@@ -169,64 +163,13 @@ class WhatIsHandedIn(unittest.TestCase):
             self.assertEqual(higher, raised(shape))
 
 
-WRONG_NUMBERS = (-1, -2, -FAR, True, False, None, "1", "", (), (1,), [], [1])
-
-
-def wrong_tokens():
-    tokens = [
-        None, True, False, 0, 1, "one", "many", "", (), [], ("one",), ("many",), ("many", (1,)), ("many", 0),
-        ("one", 1, 0), ("one", 1, 1), ("one", (1,), 0), ("many", (1,), 0, 0), ("many", (), 0), ("many", (), 5),
-        ("many", 1, 0), ("many", "1", 0), ("many", None, 0), ("many", [1], 0), ("many", [], 0), ("two", 1),
-        ("ones", 1), ("One", 1), ("", 1), (None, 1), (1, 1), ("few", (1,), 0), (None, (1,), 0), ("Many", (1,), 0),
-        ["one", 1], ["many", (1,), 0], (1, "one"), (("one", 1),), ("one", 1, None), ("many", 0, (1,)),
-    ]
-    tokens += [("one", wrong) for wrong in WRONG_NUMBERS]
-    tokens += [("many", (1,), wrong) for wrong in WRONG_NUMBERS]
-    tokens += [("many", (wrong,), 0) for wrong in WRONG_NUMBERS]
-    tokens += [("many", (1, wrong, 2), 1) for wrong in WRONG_NUMBERS]
-    tokens += [("many", (1, 2, wrong), 0) for wrong in WRONG_NUMBERS]
-    return tokens
-
-
 class Refused(unittest.TestCase):
-    def assert_refused(self, shape):
-        with self.subTest(shape=shape):
-            assert_refused(self, NoShape, raised, shape)
-            for count in (0, 1, 3, -1):
-                assert_refused(self, NoShape, laid_out, shape, count)
-
-    def test_a_state_that_is_none(self):
-        for state in WRONG_NUMBERS:
-            self.assert_refused((state, "r", [], []))
-            self.assert_refused((state, "l", [("one", 1)], [("many", (1,), 0)]))
-
-    def test_another_facing(self):
-        for facing in ("", "L", "R", "lr", "rl", " r", "left", "right", None, True, False, 0, 1, ("r",), ["l"]):
-            self.assert_refused((0, facing, [], []))
-            self.assert_refused((0, facing, [("one", 1)], [("one", 1)]))
-
-    def test_a_list_that_is_none(self):
-        for wrong in (None, True, False, 0, 1, "", "one", "l"):
-            self.assert_refused((0, "r", wrong, []))
-            self.assert_refused((0, "l", [], wrong))
-            self.assert_refused((0, "l", [("one", 1)], wrong))
-
-    def test_a_token_that_is_none(self):
-        for wrong in wrong_tokens():
-            for tokens in ([wrong], [wrong, ("one", 1)], [("one", 1), wrong], [("many", (1,), 0), wrong, ("one", 2)]):
-                self.assert_refused((0, "r", tokens, []))
-                self.assert_refused((0, "l", [], tokens))
-                self.assert_refused((0, "r", tuple(tokens), (("one", 1),)))
-                self.assert_refused((0, "l", (("one", 1),), tuple(tokens)))
-
-    def test_a_thing_too_few_or_too_many(self):
-        for shape in ((), (0,), (0, "r"), (0, "r", []), (0, "r", [], [], []), (0, "r", [], [], None), (0, [], []),
-                      ("r", [], [])):
-            self.assert_refused(shape)
-
-    def test_what_is_no_tuple(self):
-        for shape in (None, True, 0, "", "0r", [], [0, "r", [], []]):
-            self.assert_refused(shape)
+    def test_what_is_no_shape(self):
+        for shape in wrong_shapes():
+            with self.subTest(shape=shape):
+                assert_refused(self, NoShape, raised, shape)
+                for count in (0, 1, 3, -1):
+                    assert_refused(self, NoShape, laid_out, shape, count)
 
     def test_a_count_that_is_none(self):
         for shape in shapes():
