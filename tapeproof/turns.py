@@ -55,6 +55,14 @@ def values_of_entry(states, signs):
     return 2 * states * signs + 1
 
 
+def many_machines(states, signs):
+    values = values_of_entry(states, signs)
+    many = 1
+    for entry in range(states * signs):
+        many = many * values
+    return many
+
+
 def entry_of(value, states):
     if value == 0:
         return None

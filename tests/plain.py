@@ -177,6 +177,73 @@ def plain_shifted(walked, first, later):
     return False
 
 
+def plain_of(table, most, kind, holds):
+    """Of all pairs the one with the least later, and of these with the least first."""
+    walked = plain_walk(table, FIRST, most)
+    for later in range(1, most + 1):
+        for first in range(later):
+            if holds(walked, first, later):
+                return (kind, first, later)
+    return None
+
+
+def asked_by(table, lefts, rights, context):
+    """The grams that a context asks for in lefts and in rights, and the contexts; None where it has no entry."""
+    left, state, sign, right = context
+    if table[state][sign] is None:
+        return None
+    write, way, following = table[state][sign]
+    if way == "r":
+        contexts = [((write,) + left[:-1], following, right[0], gram) for gram in rights if gram[:-1] == right[1:]]
+        return [left], [], contexts
+    contexts = [(gram, following, left[0], (write,) + right[:-1]) for gram in lefts if gram[:-1] == left[1:]]
+    return [], [right], contexts
+
+
+def plain_wall(table, width, most=10 ** 9):
+    """The least wall: all contexts are asked again and again until nothing more is asked for."""
+    blanks = (0,) * width
+    lefts, rights, contexts = {blanks}, {blanks}, {(blanks, 0, 0, blanks)}
+    grown = True
+    while grown:
+        before = len(lefts) + len(rights) + len(contexts)
+        for context in list(contexts):
+            asked = asked_by(table, lefts, rights, context)
+            if asked is None or len(contexts) > most:
+                return None
+            lefts.update(asked[0])
+            rights.update(asked[1])
+            contexts.update(asked[2])
+        grown = len(lefts) + len(rights) + len(contexts) > before
+    return ("wall", width, sorted(lefts), sorted(rights), sorted(contexts)) if len(contexts) <= most else None
+
+
+def plain_stop(table, most):
+    """How many steps are done ahead of the stop, None where they are more than most."""
+    state, place, cells = 0, 0, {}
+    for done in range(most + 1):
+        if table[state][cells.get(place, 0)] is None:
+            return done
+        cells[place], way, state = table[state][cells.get(place, 0)]
+        place += 1 if way == "r" else -1
+    return None
+
+
+def plain_shown(table, most, width):
+    steps = plain_stop(table, most)
+    if steps is not None:
+        return ("stops", steps)
+    papers = [plain_of(table, most, "same", plain_same), plain_of(table, most, "shifted", plain_shifted)]
+    papers += [plain_wall(table, wide, 200) for wide in range(1, width + 1)]
+    papers = [paper for paper in papers if paper is not None]
+    return ("never", papers[0]) if papers else ("open", None)
+
+
+def plain_word(told):
+    """The book's word for what is shown."""
+    return told[1][0] if told[0] == "never" else told[0]
+
+
 def ones(*signs):
     return tuple(("one", sign) for sign in signs)
 
@@ -315,6 +382,138 @@ SWEEPS_MOVES = (
     ("step",), ("over",), ("step",), ("over",), ("step",), ("roll", "r", 1), ("join", "r", 0),
 )
 SWEEPS_PAPER = ("grow", 0, SWEEPS_SHAPE, SWEEPS_MOVES)
+
+STEP = ("step",)
+OVER = ("over",)
+
+
+def sweeper(word):
+    """Goes to the right over copies of the word, writes it once more, goes back to the left, and so on."""
+    signs = range(1, max(word) + 1)
+    back = len(word)
+    table = [[None] + [(sign, "r", 0) for sign in signs]]
+    table += [[None] + [None for _ in signs] for _ in word[1:]]
+    table += [[(0, "r", 0)] + [(sign, "l", back) for sign in signs]]
+    for state, sign in enumerate(word):
+        table[state][0] = (sign, "r", state + 1) if state < back - 1 else (sign, "l", back)
+    return table
+
+
+def swapping_sweeper(word):
+    """Likewise, but what it goes over is left as other signs, and on the way back as it was."""
+    table = sweeper(word)
+    other = max(word)
+    for state, row in enumerate(table):
+        row += [None for _ in range(other)]
+        if state < len(word) - 1:
+            row[0] = (row[0][0] + other,) + row[0][1:]
+    for sign in range(1, other + 1):
+        table[0][sign] = (sign + other, "r", 0)
+        table[-1][sign + other] = (sign, "l", len(word))
+    return table
+
+
+def sweeper_moves(word):
+    size = len(word)
+    return (OVER,) + (STEP,) * (2 * size - 1) + (OVER, STEP, ("draw", "r", size), ("trim", "l"))
+
+
+# Over 1 2 it goes to and fro on its way to the right.
+HESITATES = [
+    [(1, "r", 1), (1, "r", 3), None],
+    [(2, "l", 2), None, None],
+    [(0, "r", 0), (1, "l", 2), (2, "l", 2)],
+    [None, None, (2, "l", 4)],
+    [None, (1, "r", 5), None],
+    [None, None, (2, "r", 0)],
+]
+# It writes a 1 at the right end and a 2 at the left end in each round.
+BOTH_ENDS = [
+    [(1, "l", 1), (1, "r", 0), (2, "r", 0)],
+    [(2, "r", 0), (1, "l", 1), (2, "l", 1)],
+]
+BOTH_ENDS_SHAPE = (0, "r", ones(2), (many(0, 2), many(1, 1)))
+BOTH_ENDS_MOVES = (OVER, OVER, STEP, OVER, OVER, STEP, STEP, ("draw", "r", 1), ("join", "r", 1))
+
+# Each with a table, a start, a shape and the moves of a round.
+ROUNDS = [
+    (sweeper(word), 0, (0, "r", (), (many(0, *word),)), sweeper_moves(word))
+    for word in ((1,), (1, 2), (2, 1), (1, 1), (1, 2, 1), (1, 1, 2, 3), (3, 2, 1, 2, 3))
+] + [
+    (swapping_sweeper(word), 0, (0, "r", (), (many(0, *word),)), sweeper_moves(word))
+    for word in ((1,), (1, 2), (2, 1, 2))
+] + [
+    (HESITATES, 0, (0, "r", (), (many(0, 1, 2),)), sweeper_moves((1, 2))),
+    (BOTH_ENDS, 2, BOTH_ENDS_SHAPE, BOTH_ENDS_MOVES),
+    (SWEEPS,) + SWEEPS_PAPER[1:],
+    # Its trail is a many behind it.
+    (WRITES_RIGHT, 0, (0, "r", (many(0, 1),), ()), (STEP, ("join", "l", 0))),
+    (WRITES_RIGHT, 3, (0, "r", (many(1, 1),) + ones(1, 1), ()), (STEP, ("back", "l", 0), ("draw", "l", 1))),
+]
+
+
+def mirrored_round(table, start, shape, moves):
+    return (mirrored_table(table), start, mirrored_shape(shape), tuple(mirrored_move(move) for move in moves))
+
+
+def along(table, start, shape, moves):
+    """The round begun at each of its moves: starts, shapes and moves."""
+    here = with_tuples(shape)
+    for at in range(len(moves)):
+        yield start, here, moves[at:] + moves[:at]
+        start += steps_of(table, here, moves[at], 0)
+        here = plain_moved(table, here, moves[at])
+
+
+def with_extras(table, start, shape, moves, most=3):
+    """The round begun once and more than once later, when there is more of each many."""
+    for _ in range(most + 1):
+        yield start, shape, moves
+        for move in moves:
+            start += steps_of(table, shape, move, 0)
+            shape = plain_moved(table, shape, move)
+
+
+def all_rounds():
+    for table, start, shape, moves in [turned for told in ROUNDS for turned in (told, mirrored_round(*told))]:
+        for later_start, later_shape, same_moves in with_extras(table, start, shape, moves):
+            for told in along(table, later_start, later_shape, same_moves):
+                yield (table,) + told
+
+
+def idle_pairs(table, shape):
+    """Pairs of moves that lead to the same shape again without a step of the machine."""
+    pairs = []
+    for move in all_moves(shape):
+        if move in (STEP, OVER):
+            continue
+        behind = plain_moved(table, shape, move)
+        for other in all_moves(behind) if behind is not None else ():
+            if other not in (STEP, OVER) and plain_moved(table, behind, other) == shape:
+                pairs.append((move, other))
+    return pairs
+
+
+# Each with a table that takes the paper, of each kind one and more.
+TAKEN = [
+    (TO_AND_FRO, ("same", 0, 4)),
+    (TO_AND_FRO, ("same", 3, 15)),
+    ([[(0, "r", 1)], [(0, "l", 0)]], ("same", 0, 2)),
+    (GOES_RIGHT, ("shifted", 0, 1)),
+    (GOES_RIGHT, ("shifted", 1, 3)),
+    (WRITES_RIGHT, ("shifted", 0, 2)),
+    (mirrored_table(WRITES_RIGHT), ("shifted", 1, 2)),
+    (SWEEPS, SWEEPS_PAPER),
+    (SWEEPS, SWEEPS_PAPER[:2] + ((0, "l", [], list(SWEEPS_PAPER[2][3])), list(SWEEPS_PAPER[3]))),
+    (GOES_RIGHT, ("grow", 1, (0, "r", (), ()), (("step",), ("trim", "l")))),
+    (GOES_RIGHT, ("grow", 0, (0, "r", (("many", (0,), 1),), []), [("step",), ("join", "l", 0)])),
+    (GOES_RIGHT, ("wall", 1, [(0,)], [(0,)], [((0,), 0, 0, (0,))])),
+    (WRITES_RIGHT, ("wall", 1, [(0,), (1,)], ((0,),), [((0,), 0, 0, (0,)), ((1,), 0, 0, (0,))])),
+    (WRITES_RIGHT, (
+        "wall", 2, [(0, 0), (1, 0), (1, 1)], [(0, 0)],
+        (((0, 0), 0, 0, (0, 0)), ((1, 0), 0, 0, (0, 0)), ((1, 1), 0, 0, (0, 0))),
+    )),
+]
 
 
 WRONG_NUMBERS = (-1, -2, -FAR, True, False, None, "1", "", (), (1,), [], [1])

@@ -2,7 +2,7 @@ import unittest
 
 from plain import (
     BEAVER_FOUR, BEAVER_TWO, FAR, FIRST, GOES_RIGHT, STOPS_AT_ONCE, STOPS_AT_ONCE_OF_TWO, SWEEPS, SWEEPS_PAPER, TABLES,
-    TO_AND_FRO, WRITES_RIGHT, as_tuples, copied, mirrored_table, plain_same, plain_shifted, plain_walk,
+    TAKEN, TO_AND_FRO, WRITES_RIGHT, as_tuples, copied, plain_same, plain_shifted, plain_walk,
 )
 from tapeproof.checker import takes
 from tapeproof.growing import takes_grow
@@ -11,26 +11,6 @@ from tapeproof.rounds import takes_same, takes_shifted
 from tapeproof.turns import machine_of
 from tapeproof.walls import wall_of, wall_taken
 
-# Each with a table that takes the paper, of each kind one and more.
-TAKEN = [
-    (TO_AND_FRO, ("same", 0, 4)),
-    (TO_AND_FRO, ("same", 3, 15)),
-    ([[(0, "r", 1)], [(0, "l", 0)]], ("same", 0, 2)),
-    (GOES_RIGHT, ("shifted", 0, 1)),
-    (GOES_RIGHT, ("shifted", 1, 3)),
-    (WRITES_RIGHT, ("shifted", 0, 2)),
-    (mirrored_table(WRITES_RIGHT), ("shifted", 1, 2)),
-    (SWEEPS, SWEEPS_PAPER),
-    (SWEEPS, SWEEPS_PAPER[:2] + ((0, "l", [], list(SWEEPS_PAPER[2][3])), list(SWEEPS_PAPER[3]))),
-    (GOES_RIGHT, ("grow", 1, (0, "r", (), ()), (("step",), ("trim", "l")))),
-    (GOES_RIGHT, ("grow", 0, (0, "r", (("many", (0,), 1),), []), [("step",), ("join", "l", 0)])),
-    (GOES_RIGHT, ("wall", 1, [(0,)], [(0,)], [((0,), 0, 0, (0,))])),
-    (WRITES_RIGHT, ("wall", 1, [(0,), (1,)], ((0,),), [((0,), 0, 0, (0,)), ((1,), 0, 0, (0,))])),
-    (WRITES_RIGHT, (
-        "wall", 2, [(0, 0), (1, 0), (1, 1)], [(0, 0)],
-        (((0, 0), 0, 0, (0, 0)), ((1, 0), 0, 0, (0, 0)), ((1, 1), 0, 0, (0, 0))),
-    )),
-]
 BY_KIND = {"same": takes_same, "shifted": takes_shifted, "grow": takes_grow, "wall": wall_taken}
 
 THINGS = (

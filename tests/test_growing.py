@@ -1,110 +1,14 @@
 import unittest
 
 from plain import (
-    BEAVER_TWO, FAR, FIRST, GOES_RIGHT, NO_MOVES, STOPS_AT_ONCE, SWEEPS, SWEEPS_MOVES, SWEEPS_PAPER, SWEEPS_SHAPE,
-    TO_AND_FRO, WRITES_RIGHT, Spread, all_moves, as_tuples, copied, from_machine, many, mirrored_move, mirrored_shape,
-    mirrored_table, ones, plain_moved, plain_walk, steps_of, with_lists, with_tuples, wrong_shapes,
+    BEAVER_TWO, BOTH_ENDS, BOTH_ENDS_MOVES, BOTH_ENDS_SHAPE, FAR, FIRST, GOES_RIGHT, NO_MOVES, ROUNDS, STEP,
+    STOPS_AT_ONCE, SWEEPS, SWEEPS_MOVES, SWEEPS_SHAPE, TO_AND_FRO, WRITES_RIGHT, Spread, all_moves, all_rounds, along,
+    as_tuples, copied, from_machine, idle_pairs, many, mirrored_round, mirrored_table, ones, plain_moved, plain_walk,
+    steps_of, sweeper, sweeper_moves, with_lists, with_tuples, wrong_shapes,
 )
 from tapeproof.growing import takes_grow
 from tapeproof.machines import Machine
 from tapeproof.shapes import laid_out, raised
-
-STEP = ("step",)
-OVER = ("over",)
-
-
-def sweeper(word):
-    """Goes to the right over copies of the word, writes it once more, goes back to the left, and so on."""
-    signs = range(1, max(word) + 1)
-    back = len(word)
-    table = [[None] + [(sign, "r", 0) for sign in signs]]
-    table += [[None] + [None for _ in signs] for _ in word[1:]]
-    table += [[(0, "r", 0)] + [(sign, "l", back) for sign in signs]]
-    for state, sign in enumerate(word):
-        table[state][0] = (sign, "r", state + 1) if state < back - 1 else (sign, "l", back)
-    return table
-
-
-def swapping_sweeper(word):
-    """Likewise, but what it goes over is left as other signs, and on the way back as it was."""
-    table = sweeper(word)
-    other = max(word)
-    for state, row in enumerate(table):
-        row += [None for _ in range(other)]
-        if state < len(word) - 1:
-            row[0] = (row[0][0] + other,) + row[0][1:]
-    for sign in range(1, other + 1):
-        table[0][sign] = (sign + other, "r", 0)
-        table[-1][sign + other] = (sign, "l", len(word))
-    return table
-
-
-def sweeper_moves(word):
-    size = len(word)
-    return (OVER,) + (STEP,) * (2 * size - 1) + (OVER, STEP, ("draw", "r", size), ("trim", "l"))
-
-
-# Over 1 2 it goes to and fro on its way to the right.
-HESITATES = [
-    [(1, "r", 1), (1, "r", 3), None],
-    [(2, "l", 2), None, None],
-    [(0, "r", 0), (1, "l", 2), (2, "l", 2)],
-    [None, None, (2, "l", 4)],
-    [None, (1, "r", 5), None],
-    [None, None, (2, "r", 0)],
-]
-# It writes a 1 at the right end and a 2 at the left end in each round.
-BOTH_ENDS = [
-    [(1, "l", 1), (1, "r", 0), (2, "r", 0)],
-    [(2, "r", 0), (1, "l", 1), (2, "l", 1)],
-]
-BOTH_ENDS_SHAPE = (0, "r", ones(2), (many(0, 2), many(1, 1)))
-BOTH_ENDS_MOVES = (OVER, OVER, STEP, OVER, OVER, STEP, STEP, ("draw", "r", 1), ("join", "r", 1))
-
-# Each with a table, a start, a shape and the moves of a round.
-ROUNDS = [
-    (sweeper(word), 0, (0, "r", (), (many(0, *word),)), sweeper_moves(word))
-    for word in ((1,), (1, 2), (2, 1), (1, 1), (1, 2, 1), (1, 1, 2, 3), (3, 2, 1, 2, 3))
-] + [
-    (swapping_sweeper(word), 0, (0, "r", (), (many(0, *word),)), sweeper_moves(word))
-    for word in ((1,), (1, 2), (2, 1, 2))
-] + [
-    (HESITATES, 0, (0, "r", (), (many(0, 1, 2),)), sweeper_moves((1, 2))),
-    (BOTH_ENDS, 2, BOTH_ENDS_SHAPE, BOTH_ENDS_MOVES),
-    (SWEEPS,) + SWEEPS_PAPER[1:],
-    # Its trail is a many behind it.
-    (WRITES_RIGHT, 0, (0, "r", (many(0, 1),), ()), (STEP, ("join", "l", 0))),
-    (WRITES_RIGHT, 3, (0, "r", (many(1, 1),) + ones(1, 1), ()), (STEP, ("back", "l", 0), ("draw", "l", 1))),
-]
-
-
-def mirrored_round(table, start, shape, moves):
-    return (mirrored_table(table), start, mirrored_shape(shape), tuple(mirrored_move(move) for move in moves))
-
-
-def along(table, start, shape, moves):
-    """The round begun at each of its moves: starts, shapes and moves."""
-    here = with_tuples(shape)
-    for at in range(len(moves)):
-        yield start, here, moves[at:] + moves[:at]
-        start += steps_of(table, here, moves[at], 0)
-        here = plain_moved(table, here, moves[at])
-
-
-def with_extras(table, start, shape, moves, most=3):
-    """The round begun once and more than once later, when there is more of each many."""
-    for _ in range(most + 1):
-        yield start, shape, moves
-        for move in moves:
-            start += steps_of(table, shape, move, 0)
-            shape = plain_moved(table, shape, move)
-
-
-def all_rounds():
-    for table, start, shape, moves in [turned for told in ROUNDS for turned in (told, mirrored_round(*told))]:
-        for later_start, later_shape, same_moves in with_extras(table, start, shape, moves):
-            for told in along(table, later_start, later_shape, same_moves):
-                yield (table,) + told
 
 
 def plain_takes(table, paper):
@@ -200,19 +104,6 @@ class Taken(unittest.TestCase):
         self.assertIs(takes_grow(machine, ("grow", 5000, shape, [STEP] * 20 + [("join", "l", 0)])), True)
         self.assertIs(takes_grow(machine, ("grow", 4999, shape, [STEP] * 20 + [("join", "l", 0)])), False)
         self.assertIs(takes_grow(machine, ("grow", 5000, shape, [STEP] * 19 + [("join", "l", 0)])), False)
-
-
-def idle_pairs(table, shape):
-    """Pairs of moves that lead to the same shape again without a step of the machine."""
-    pairs = []
-    for move in all_moves(shape):
-        if move in (STEP, OVER):
-            continue
-        behind = plain_moved(table, shape, move)
-        for other in all_moves(behind) if behind is not None else ():
-            if other not in (STEP, OVER) and plain_moved(table, behind, other) == shape:
-                pairs.append((move, other))
-    return pairs
 
 
 class NotTaken(unittest.TestCase):

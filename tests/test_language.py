@@ -190,7 +190,9 @@ class Expressions(unittest.TestCase):
 
     def test_l8_l12_l17_names(self):
         for path, node in nodes():
-            name = {ast.Name: "id", ast.Attribute: "attr", ast.FunctionDef: "name", ast.ClassDef: "name", ast.arg: "arg"}
+            name = {
+                ast.Name: "id", ast.Attribute: "attr", ast.FunctionDef: "name", ast.ClassDef: "name", ast.arg: "arg",
+            }
             if type(node) in name:
                 said = getattr(node, name[type(node)])
                 self.assertTrue(said in DOUBLE or not said.startswith("_"), (path, said))

@@ -1,9 +1,9 @@
 import unittest
 
 from plain import (
-    BEAVER_FOUR, BEAVER_THREE, BEAVER_TWO, FAR, FIRST, GOES_RIGHT, STOPS_AT_ONCE, SWEEPS, TABLES, TO_AND_FRO,
-    WRITES_LEFT, WRITES_RIGHT, as_tuples, many_tables, mirrored_table, plain_same, plain_shifted, plain_walk,
-    spread_table, staying_table,
+    BEAVER_FOUR, BEAVER_THREE, BEAVER_TWO, FAR, GOES_RIGHT, STOPS_AT_ONCE, SWEEPS, TABLES, TO_AND_FRO, WRITES_LEFT,
+    WRITES_RIGHT, as_tuples, many_tables, mirrored_table, plain_of, plain_same, plain_shifted, spread_table,
+    staying_table,
 )
 from tapeproof.checker import takes
 from tapeproof.machines import Machine
@@ -11,16 +11,6 @@ from tapeproof.makers import same_of, shifted_of
 from tapeproof.turns import machine_of
 
 MAKERS = (("same", same_of, plain_same), ("shifted", shifted_of, plain_shifted))
-
-
-def plain_of(table, most, kind, holds):
-    """Of all pairs the one with the least later, and of these with the least first."""
-    walked = plain_walk(table, FIRST, most)
-    for later in range(1, most + 1):
-        for first in range(later):
-            if holds(walked, first, later):
-                return (kind, first, later)
-    return None
 
 
 def some_tables():

@@ -3,8 +3,8 @@ from itertools import product
 
 from plain import (
     BEAVER_THREE, BEAVER_TWO, COUNTS, FAR, FIRST, GOES_RIGHT, STOPS_AT_ONCE, SWEEPS, SWEEPS_PAPER, TABLES, TO_AND_FRO,
-    WRITES_LEFT, WRITES_RIGHT, Spread, as_tuples, assert_refused, copied, many_tables, mirrored_table, plain_walk,
-    spread_table, staying_table,
+    WRITES_LEFT, WRITES_RIGHT, Spread, as_tuples, asked_by, assert_refused, copied, many_tables, mirrored_table,
+    plain_walk, plain_wall, spread_table, staying_table,
 )
 from tapeproof.errors import NoWidth
 from tapeproof.machines import Machine
@@ -12,37 +12,6 @@ from tapeproof.turns import machine_of
 from tapeproof.walls import wall_of, wall_taken
 
 FAR_MOST = 3000
-
-
-def asked_by(table, lefts, rights, context):
-    """The grams that a context asks for in lefts and in rights, and the contexts; None where it has no entry."""
-    left, state, sign, right = context
-    if table[state][sign] is None:
-        return None
-    write, way, following = table[state][sign]
-    if way == "r":
-        contexts = [((write,) + left[:-1], following, right[0], gram) for gram in rights if gram[:-1] == right[1:]]
-        return [left], [], contexts
-    contexts = [(gram, following, left[0], (write,) + right[:-1]) for gram in lefts if gram[:-1] == left[1:]]
-    return [], [right], contexts
-
-
-def plain_wall(table, width, most=10 ** 9):
-    """The least wall: all contexts are asked again and again until nothing more is asked for."""
-    blanks = (0,) * width
-    lefts, rights, contexts = {blanks}, {blanks}, {(blanks, 0, 0, blanks)}
-    grown = True
-    while grown:
-        before = len(lefts) + len(rights) + len(contexts)
-        for context in list(contexts):
-            asked = asked_by(table, lefts, rights, context)
-            if asked is None or len(contexts) > most:
-                return None
-            lefts.update(asked[0])
-            rights.update(asked[1])
-            contexts.update(asked[2])
-        grown = len(lefts) + len(rights) + len(contexts) > before
-    return ("wall", width, sorted(lefts), sorted(rights), sorted(contexts)) if len(contexts) <= most else None
 
 
 def plain_taken(table, paper):
